@@ -4,6 +4,8 @@ package cairn
 import (
 	"cairn/api"
 	"cairn/layout"
+	"cairn/sound"
+	"cairn/words"
 )
 
 // Sum is the sum of some words (P3).
@@ -21,10 +23,25 @@ func Format(blocks int) ([]uint64, api.Errno) {
 }
 
 // Check looks whether words are an image, and a sound one (P4).
-func Check(image []uint64) (api.Errno, int) { return api.OK, 0 }
+func Check(image []uint64) (api.Errno, int) {
+	if !layout.Shaped(len(image)) {
+		return api.ErrShape, 0
+	}
+	return sound.Check(words.Kept(image))
+}
 
 // Repair makes a sound image of what there is (P5).
-func Repair(image []uint64) ([]uint64, api.Errno) { return nil, api.OK }
+func Repair(image []uint64) ([]uint64, api.Errno) {
+	if !layout.Shaped(len(image)) {
+		return nil, api.ErrShape
+	}
+	mended := make([]uint64, len(image))
+	copy(mended, image)
+	if errno := sound.Repair(words.Kept(mended)); errno != api.OK {
+		return nil, errno
+	}
+	return mended, api.OK
+}
 
 // Heap is the objects of an image.
 type Heap struct{}

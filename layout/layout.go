@@ -5,13 +5,20 @@ import (
 	"math/bits"
 
 	"cairn/api"
+	"cairn/words"
 )
 
-// The places of the head's words that are named one by one.
+// The places of the words that are named one by one; the roots and the log's
+// records go on from theirs.
 const (
-	MagicPlace  = 0
-	BlocksPlace = 1
-	SumPlace    = api.Head - 1
+	MagicPlace   = 0
+	BlocksPlace  = 1
+	RootPlace    = 3
+	SumPlace     = api.Head - 1
+	LogPlace     = api.Head
+	LogSumPlace  = LogPlace + 1
+	RecordsPlace = LogPlace + 2
+	blocksStart  = api.Head + api.Log
 )
 
 const (
@@ -20,9 +27,9 @@ const (
 )
 
 // Sum is the sum of words as the head and the log carry it.
-func Sum(words []uint64) uint64 {
+func Sum(list []uint64) uint64 {
 	sum := uint64(0)
-	for _, word := range words {
+	for _, word := range list {
 		sum = (bits.RotateLeft64(sum, sumTurn) ^ word) * sumFactor
 	}
 	return sum
@@ -36,7 +43,30 @@ func Fits(blocks int) bool {
 // Length is how many words an image with so many blocks has; only where they
 // fit, since far away the product would wrap around.
 func Length(blocks int) int {
-	return api.Head + api.Log + api.Block*blocks
+	return blocksStart + api.Block*blocks
+}
+
+// Blocks is how many blocks an image with so many words has; only where it has
+// the shape of one.
+func Blocks(length int) int {
+	return (length - blocksStart) / api.Block
+}
+
+// Shaped tells whether an image may have so many words.
+func Shaped(length int) bool {
+	blocks := Blocks(length)
+	return Fits(blocks) && Length(blocks) == length
+}
+
+// BlockPlace is the place of a block's first word; blocks count from 1 on.
+func BlockPlace(block int) int {
+	return blocksStart + api.Block*(block-1)
+}
+
+// Logged tells whether a record may name that place, in an image with so many
+// words: any but those of the log itself.
+func Logged(place uint64, length int) bool {
+	return place < api.Head || place >= blocksStart && place < uint64(length)
 }
 
 // Head is the first words of an image: an array, so that heads are values and
@@ -45,7 +75,24 @@ type Head [api.Head]uint64
 
 // NewHead is the head of an image without roots and commits.
 func NewHead(blocks int) Head {
-	return Head{MagicPlace: api.Magic, BlocksPlace: uint64(blocks)}.Sealed()
+	return Head{}.Fitted(blocks)
+}
+
+// HeadOf is the head of a row.
+func HeadOf(row words.Row) Head {
+	var head Head
+	for place := range head {
+		head[place] = row.Read(place)
+	}
+	return head
+}
+
+// Fitted is the head as it must be for so many blocks; commits and roots are
+// as they were.
+func (h Head) Fitted(blocks int) Head {
+	h[MagicPlace] = api.Magic
+	h[BlocksPlace] = uint64(blocks)
+	return h.Sealed()
 }
 
 // Sealed is the head with its sum made right.

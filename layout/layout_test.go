@@ -4,6 +4,7 @@ import (
 	"testing"
 
 	"cairn/api"
+	"cairn/words"
 )
 
 func TestNewHead(t *testing.T) {
@@ -47,6 +48,63 @@ func TestLength(t *testing.T) {
 	for n, want := range map[int]int{1: 114, 2: 122, 31: 354, 32: 362} {
 		if l := Length(n); l != want {
 			t.Errorf("P3: Length(%d) = %d, want %d", n, l, want)
+		}
+	}
+}
+
+func TestShaped(t *testing.T) {
+	for length := -600; length <= 600; length++ {
+		want := length >= 114 && length <= 362 && length%8 == 2
+		if Shaped(length) != want {
+			t.Errorf("P4: Shaped(%d) = %t", length, !want)
+		}
+	}
+	for n := 1; n <= 32; n++ {
+		if b := Blocks(Length(n)); b != n {
+			t.Errorf("P4: an image of %d blocks has %d by its words", n, b)
+		}
+	}
+}
+
+func TestBlockPlace(t *testing.T) {
+	for block, want := range map[int]int{1: 106, 2: 114, 32: 354} {
+		if p := BlockPlace(block); p != want {
+			t.Errorf("P4: block %d is at %d, want %d", block, p, want)
+		}
+	}
+}
+
+func TestLogged(t *testing.T) {
+	for place, want := range map[uint64]bool{0: true, 7: true, 8: false, 105: false, 106: true, 113: true, 114: false, 1 << 63: false, 1<<64 - 1: false} {
+		if Logged(place, 114) != want {
+			t.Errorf("P6: Logged(%d) = %t", place, !want)
+		}
+	}
+}
+
+func TestFittedAndHeadOf(t *testing.T) {
+	row := words.Kept{5, 6, 9, 1, 0, 3, 0, 4, 99, 99}
+	if h := HeadOf(row); h != (Head{5, 6, 9, 1, 0, 3, 0, 4}) {
+		t.Errorf("P4: HeadOf = %v", h)
+	}
+	want := Head{20261114, 3, 9, 1, 0, 3, 0, 0xb48bc745ae844d29}
+	if h := HeadOf(row).Fitted(3); h != want {
+		t.Errorf("P4: Fitted = %x, want %x", h, want)
+	}
+}
+
+func TestParseHeader(t *testing.T) {
+	for span := -1; span < 12; span++ {
+		for pointers := range 100 {
+			word := uint64(1000000 + 100*span + pointers)
+			s, p, ok := ParseHeader(word)
+			want := span >= 1 && span <= 4 && pointers <= 8*span-1
+			if ok != want || ok && (s != span || p != pointers) || !ok && (s != 0 || p != 0) {
+				t.Errorf("P4: ParseHeader(%d) = %d, %d, %t", word, s, p, ok)
+			}
+			if _, _, ok := ParseHeader(word + 1<<63); ok {
+				t.Errorf("P4: ParseHeader(%d) is ok", word+1<<63)
+			}
 		}
 	}
 }
