@@ -55,12 +55,63 @@ func find(row words.Row, block int, last int) Thing {
 	return Thing{Kind: Object, Handle: block, Span: span, Pointers: pointers}
 }
 
+// Survey gathers the objects and the wrong headers that a walk finds.
+func Survey(row words.Row) (objects Objects, wrong []Thing) {
+	Walk(row, func(thing Thing) {
+		switch thing.Kind {
+		case Object:
+			objects = append(objects, thing)
+		case Wrong:
+			wrong = append(wrong, thing)
+		}
+	})
+	return objects, wrong
+}
+
+// Room is the first block of the first row of so many free ones; not ok, if
+// there is no such row.
+func Room(row words.Row, span int) (block int, ok bool) {
+	free := 0
+	Walk(row, func(thing Thing) {
+		if thing.Kind != Free {
+			free = 0
+			return
+		}
+		free++
+		if free == span && !ok {
+			block, ok = thing.Handle-span+1, true
+		}
+	})
+	return block, ok
+}
+
 // Place is the place of its header.
 func (t Thing) Place() int { return layout.BlockPlace(t.Handle) }
 
 // WordPlace is the place of its word with the number i; its pointers come
 // first.
 func (t Thing) WordPlace(i int) int { return t.Place() + 1 + i }
+
+// Has tells whether it has a word with the number i.
+func (t Thing) Has(i int) bool { return i >= 0 && i < layout.Words(t.Span) }
+
+// Words are its words behind its header.
+func (t Thing) Words(row words.Row) []uint64 {
+	list := make([]uint64, layout.Words(t.Span))
+	for i := range list {
+		list[i] = row.Read(t.WordPlace(i))
+	}
+	return list
+}
+
+// Make lets it be an object without anything in it; its blocks, while they
+// were free, may have had anything in them.
+func (t Thing) Make(row words.Row) {
+	row.Put(t.Place(), layout.Header(t.Span, t.Pointers))
+	for i := range layout.Words(t.Span) {
+		row.Put(t.WordPlace(i), 0)
+	}
+}
 
 // Clear lets all its blocks be free.
 func (t Thing) Clear(row words.Row) {
@@ -89,6 +140,23 @@ func (o Objects) Held(word uint64) (Thing, bool) {
 func (o Objects) Dangling(word uint64) bool {
 	_, ok := o.Held(word)
 	return word != 0 && !ok
+}
+
+// Holds tells whether a root, or a pointer of any of the objects, is this word.
+func (o Objects) Holds(row words.Row, word uint64) bool {
+	for i := range api.Roots {
+		if row.Read(layout.RootPlace+i) == word {
+			return true
+		}
+	}
+	for _, object := range o {
+		for i := range object.Pointers {
+			if row.Read(object.WordPlace(i)) == word {
+				return true
+			}
+		}
+	}
+	return false
 }
 
 // Marks are set at the handles of some objects.

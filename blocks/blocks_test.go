@@ -79,3 +79,59 @@ func TestReached(t *testing.T) {
 		t.Errorf("P4: reached are %v", marks)
 	}
 }
+
+func TestSurvey(t *testing.T) {
+	objects, wrong := Survey(row(5, map[int]uint64{106: 3, 122: 1000201, 130: 4, 138: 5}))
+	if !slices.Equal(objects, Objects{{Object, 3, 2, 1}}) || !slices.Equal(wrong, []Thing{{Wrong, 1, 1, 0}, {Wrong, 5, 1, 0}}) {
+		t.Errorf("P4: a survey finds %v and %v", objects, wrong)
+	}
+}
+
+func TestRoom(t *testing.T) {
+	// Free are 2, 4 to 5, 8 to 10.
+	r := row(10, map[int]uint64{106: 1000100, 122: 1000100, 146: 1000200})
+	for span, want := range map[int]int{1: 2, 2: 4, 3: 8, 4: 0} {
+		if block, ok := Room(r, span); block != want || ok != (want > 0) {
+			t.Errorf("P7: Room of %d = %d, %t", span, block, ok)
+		}
+	}
+}
+
+func TestMakeAndWords(t *testing.T) {
+	r := make(words.Kept, 138)
+	for i := range r {
+		r[i] = 9
+	}
+	object := Thing{Object, 2, 2, 3}
+	object.Make(r)
+	for place, word := range r {
+		want := uint64(9)
+		if place == 114 {
+			want = 1000203
+		} else if place > 114 && place < 130 {
+			want = 0
+		}
+		if word != want {
+			t.Errorf("P7: place %d is %d, want %d", place, word, want)
+		}
+	}
+	r[115], r[129] = 5, 6
+	if list := object.Words(r); len(list) != 15 || list[0] != 5 || list[14] != 6 {
+		t.Errorf("P7: the words are %v", list)
+	}
+	for i := -3; i < 40; i++ {
+		if want := i >= 0 && i < 15; object.Has(i) != want {
+			t.Errorf("P7: Has(%d) = %t", i, !want)
+		}
+	}
+}
+
+func TestHolds(t *testing.T) {
+	r := row(3, map[int]uint64{2: 7, 3: 4, 6: 5, 7: 8, 106: 1000202, 107: 6, 108: 1, 109: 9})
+	objects, _ := Survey(r)
+	for word, want := range map[uint64]bool{1: true, 4: true, 5: true, 6: true, 7: false, 8: false, 9: false, 1000202: false} {
+		if objects.Holds(r, word) != want {
+			t.Errorf("P7: Holds(%d) = %t", word, !want)
+		}
+	}
+}

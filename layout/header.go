@@ -11,6 +11,17 @@ func Words(span int) int {
 	return api.Block*span - 1
 }
 
+// Header is the header of an object with that span and so many pointers.
+func Header(span int, pointers int) uint64 {
+	return uint64(api.Tag + spanUnit*span + pointers)
+}
+
+// Proper tells whether there may be an object with that span and so many
+// pointers.
+func Proper(span int, pointers int) bool {
+	return span >= 1 && span <= api.MaxSpan && pointers >= 0 && pointers <= Words(span)
+}
+
 // ParseHeader tells the span and the pointers that a header names; not ok, if
 // the word is the header of no object, wherever it stands.
 func ParseHeader(word uint64) (span int, pointers int, ok bool) {
@@ -21,7 +32,7 @@ func ParseHeader(word uint64) (span int, pointers int, ok bool) {
 	}
 	rest := int(word - api.Tag)
 	span, pointers = rest/spanUnit, rest%spanUnit
-	if span < 1 || pointers > Words(span) {
+	if !Proper(span, pointers) {
 		return 0, 0, false
 	}
 	return span, pointers, true

@@ -13,6 +13,7 @@ import (
 const (
 	MagicPlace   = 0
 	BlocksPlace  = 1
+	CommitsPlace = 2
 	RootPlace    = 3
 	SumPlace     = api.Head - 1
 	LogPlace     = api.Head
@@ -63,6 +64,11 @@ func BlockPlace(block int) int {
 	return blocksStart + api.Block*(block-1)
 }
 
+// IsRoot tells whether there is a root with the number i.
+func IsRoot(i int) bool {
+	return i >= 0 && i < api.Roots
+}
+
 // Logged tells whether a record may name that place, in an image with so many
 // words: any but those of the log itself.
 func Logged(place uint64, length int) bool {
@@ -92,6 +98,12 @@ func HeadOf(row words.Row) Head {
 func (h Head) Fitted(blocks int) Head {
 	h[MagicPlace] = api.Magic
 	h[BlocksPlace] = uint64(blocks)
+	return h.Sealed()
+}
+
+// Next is the head behind one commit more.
+func (h Head) Next() Head {
+	h[CommitsPlace]++
 	return h.Sealed()
 }
 

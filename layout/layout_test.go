@@ -108,3 +108,46 @@ func TestParseHeader(t *testing.T) {
 		}
 	}
 }
+
+func TestHeader(t *testing.T) {
+	for span := 1; span <= 4; span++ {
+		for pointers := range 8 * span {
+			s, p, ok := ParseHeader(Header(span, pointers))
+			if !ok || s != span || p != pointers {
+				t.Errorf("P7: the header of %d, %d is read as %d, %d, %t", span, pointers, s, p, ok)
+			}
+		}
+	}
+	if h := Header(2, 15); h != 1000215 {
+		t.Errorf("P7: Header(2, 15) = %d", h)
+	}
+}
+
+func TestProper(t *testing.T) {
+	for span := -3; span < 9; span++ {
+		for pointers := -3; pointers < 80; pointers++ {
+			if want := span >= 1 && span <= 4 && pointers >= 0 && pointers < 8*span; Proper(span, pointers) != want {
+				t.Errorf("P7: Proper(%d, %d) = %t", span, pointers, !want)
+			}
+		}
+	}
+}
+
+func TestIsRoot(t *testing.T) {
+	for i := -5; i < 10; i++ {
+		if want := i >= 0 && i < 4; IsRoot(i) != want {
+			t.Errorf("P7: IsRoot(%d) = %t", i, !want)
+		}
+	}
+}
+
+func TestNext(t *testing.T) {
+	h := Head{20261114, 2, 0, 1, 0, 0, 0, 0}
+	if next := h.Next(); next != (Head{20261114, 2, 1, 1, 0, 0, 0, 0x1ba94df0e5992e60}) {
+		t.Errorf("P8: the next head is %x", next)
+	}
+	last := Head{20261114, 1, 1<<64 - 1, 0, 0, 0, 0, 0}
+	if next := last.Next(); next != (Head{20261114, 1, 0, 0, 0, 0, 0, 0x5a129ec65c23fbdb}) {
+		t.Errorf("P8: the head behind the last number is %x", next)
+	}
+}

@@ -17,7 +17,7 @@ func Check(row words.Row) (api.Errno, int) {
 	if row.Read(layout.LogPlace) != 0 {
 		return api.ErrLog, layout.LogPlace
 	}
-	objects, wrong := survey(row)
+	objects, wrong := blocks.Survey(row)
 	if len(wrong) > 0 {
 		return api.ErrHeader, wrong[0].Place()
 	}
@@ -38,19 +38,6 @@ func wrongHead(row words.Row) (int, bool) {
 		place++
 	}
 	return place, true
-}
-
-// survey gathers the objects and the wrong headers that a walk finds.
-func survey(row words.Row) (objects blocks.Objects, wrong []blocks.Thing) {
-	blocks.Walk(row, func(thing blocks.Thing) {
-		switch thing.Kind {
-		case blocks.Object:
-			objects = append(objects, thing)
-		case blocks.Wrong:
-			wrong = append(wrong, thing)
-		}
-	})
-	return objects, wrong
 }
 
 // checkHolds checks what roots and pointers hold, and that each object is

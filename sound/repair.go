@@ -18,7 +18,7 @@ func Repair(row words.Row) api.Errno {
 	if place, wrong := wrongHead(row); wrong && place != layout.SumPlace {
 		return api.ErrSuper
 	}
-	objects, wrong := survey(row)
+	objects, wrong := blocks.Survey(row)
 	for _, thing := range wrong {
 		thing.Clear(row)
 	}

@@ -21,3 +21,10 @@ func (k Kept) Read(place int) uint64 { return k[place] }
 
 // Put lets the word at a place be another one.
 func (k Kept) Put(place int, value uint64) { k[place] = value }
+
+// Copy is a row with the same words, in memory of its own.
+func (k Kept) Copy() Kept {
+	other := make(Kept, len(k))
+	copy(other, k)
+	return other
+}
