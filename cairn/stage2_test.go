@@ -535,5 +535,8 @@ func TestAnyWords(t *testing.T) {
 			t.Fatalf("P5: Repair = %d", e)
 		}
 		wantCheck(t, "any words, mended", mended, api.OK, 0)
+		if again, e := cairn.Repair(mended); e != api.OK || !slices.Equal(again, mended) {
+			t.Fatalf("P9: Repair of what is mended = %d, or other words", e)
+		}
 	}
 }
